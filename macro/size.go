@@ -2,6 +2,11 @@ package macro
 
 import "graftwood/api"
 
+// Much tells whether d has too many nodes, or is nested too deep.
+func Much(d api.Datum) bool {
+	return !(&size{}).holds(d, 1)
+}
+
 // size counts nodes, as they are met.
 type size struct {
 	nodes int
