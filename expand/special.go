@@ -1,9 +1,8 @@
 package expand
 
 import (
-	"strings"
-
 	"graftwood/api"
+	"graftwood/text"
 )
 
 // special is what a special word makes of what stands behind it. Definitions are no expressions.
@@ -11,7 +10,7 @@ func (e *expander) special(name string, l []api.Datum) api.Core {
 	switch name {
 	case "quote":
 		must(len(l) == 1, api.ErrForm)
-		return e.node(api.Core{Kind: api.CQuote, Quote: quoted(l[0])})
+		return e.node(api.Core{Kind: api.CQuote, Quote: text.Bare(l[0])})
 	case "if":
 		must(len(l) == 3, api.ErrForm)
 		return e.with(e.node(api.Core{Kind: api.CIf}), l)
@@ -32,22 +31,6 @@ func (e *expander) special(name string, l []api.Datum) api.Core {
 
 func beginsWithList(l []api.Datum) bool {
 	return len(l) > 0 && l[0].Kind == api.DList
-}
-
-// quoted is d in memory of its own, without stamps, and without what its kind has not.
-func quoted(d api.Datum) api.Datum {
-	out := api.Datum{Kind: d.Kind}
-	switch d.Kind {
-	case api.DNum, api.DBool:
-		out.N = d.N
-	case api.DSym:
-		out.Name = strings.Clone(d.Name)
-	case api.DList:
-		for _, kid := range d.Kids {
-			out.Kids = append(out.Kids, quoted(kid))
-		}
-	}
-	return out
 }
 
 func (e *expander) body(l []api.Datum) api.Core {
