@@ -3,11 +3,8 @@ package model
 import (
 	"graftwood/api"
 	"graftwood/text"
+	"graftwood/value"
 )
-
-func inRange(n int64) bool {
-	return -api.MaxInt <= n && n <= api.MaxInt
-}
 
 func wrongPart(p api.Part) api.Errno {
 	if len(p.Body) > api.MaxBody {
@@ -76,7 +73,7 @@ func wrongFields(c *api.Core, around int) api.Errno {
 	fit := true
 	switch c.Kind {
 	case api.CNum:
-		fit = inRange(c.N)
+		fit = value.InRange(c.N)
 	case api.CBool:
 		fit = c.N == 0 || c.N == 1
 	case api.CLocal, api.CSetLocal:
@@ -84,7 +81,7 @@ func wrongFields(c *api.Core, around int) api.Errno {
 	case api.CLambda:
 		fit = 0 <= c.Index && c.Index <= api.MaxNodes
 	case api.CPrim:
-		if argsOf(c.Own) == 0 {
+		if value.Args(c.Own) == 0 {
 			return api.ErrName
 		}
 	case api.CQuote:

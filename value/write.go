@@ -1,4 +1,4 @@
-package model
+package value
 
 import (
 	"strconv"
@@ -7,16 +7,16 @@ import (
 	"graftwood/api"
 )
 
-// output is what was put out so far.
-type output struct {
-	texts []string
+// Output is what was put out so far.
+type Output struct {
+	Texts []string
 }
 
-func (o *output) put(v value) {
-	must(len(o.texts) < api.MaxOut, api.RunMuch)
+func (o *Output) put(v Value) {
+	Must(len(o.Texts) < api.MaxOut, api.RunMuch)
 	var w writer
 	w.value(v)
-	o.texts = append(o.texts, w.String())
+	o.Texts = append(o.Texts, w.String())
 }
 
 // writer is a text that a value is written to, and how many nodes of that were come to.
@@ -26,19 +26,19 @@ type writer struct {
 }
 
 // value ends the run, as soon as there are too many nodes: pairs that stand in several places may have more of them than can be gone through.
-func (w *writer) value(v value) {
+func (w *writer) value(v Value) {
 	w.nodes++
-	must(w.nodes <= api.MaxShown, api.RunMuch)
+	Must(w.nodes <= api.MaxShown, api.RunMuch)
 	switch v := v.(type) {
-	case number:
+	case Number:
 		w.WriteString(strconv.FormatInt(int64(v), 10))
-	case truth:
+	case Truth:
 		w.truth(bool(v))
-	case symbol:
+	case Symbol:
 		w.WriteString(string(v))
-	case nothing:
+	case Nothing:
 		w.WriteString("()")
-	case *pair:
+	case *Pair:
 		w.pair(v)
 	default:
 		w.WriteString("#p")
@@ -53,16 +53,16 @@ func (w *writer) truth(is bool) {
 	}
 }
 
-func (w *writer) pair(p *pair) {
+func (w *writer) pair(p *Pair) {
 	w.WriteByte('(')
 	first, second := p.values()
 	w.value(first)
-	for next, ok := second.(*pair); ok; next, ok = second.(*pair) {
+	for next, ok := second.(*Pair); ok; next, ok = second.(*Pair) {
 		w.WriteByte(' ')
 		first, second = next.values()
 		w.value(first)
 	}
-	if second != (nothing{}) {
+	if second != (Nothing{}) {
 		w.WriteString(" . ")
 		w.value(second)
 	}
